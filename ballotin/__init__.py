@@ -1,0 +1,1 @@
+"""Ballotin: a head made by lots and votes by turns."""
