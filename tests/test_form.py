@@ -119,6 +119,16 @@ class Syntax(unittest.TestCase):
                 for name in bound_names(node):
                     self.assertFalse(hasattr(builtins, name), (at, name))
 
+    def test_locals_are_not_called_like_imports_or_classes(self):
+        for name, tree in trees():
+            taken = {node.name for node in tree.body if isinstance(node, ast.ClassDef)}
+            for node in tree.body:
+                if isinstance(node, ast.ImportFrom):
+                    taken |= {alias.name for alias in node.names}
+            for node in ast.walk(tree):
+                if isinstance(node, (ast.arg, ast.Name)):
+                    self.assertTrue(taken.isdisjoint(bound_names(node)), (name, node.lineno))
+
     def test_names_of_pythons_own(self):
         for at, node in nodes():
             if isinstance(node, ast.Name) and hasattr(builtins, node.id):

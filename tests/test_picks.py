@@ -1,42 +1,11 @@
 import inspect
 import itertools
 import math
-import sys
 import unittest
 
-from ballotin.errors import BadPick, BallotError, NoDraw
+from ballotin.errors import BadPick, NoDraw
 from ballotin.picks import number_of, pick, ways
-
-# Far more rows than a walk over the places needs, far fewer than one over the picks would.
-MOST_ROWS = 100_000
-
-
-def in_few_rows(call, *given):
-    """Calls with a bound on the rows of code that are run, so that a walk over all picks fails and doesn't hang."""
-    rows = 0
-
-    def watch(frame, event, arg):
-        nonlocal rows
-        if event == "line":
-            rows += 1
-            if rows > MOST_ROWS:
-                raise AssertionError("too many rows of code are run")
-        return watch
-
-    before = sys.gettrace()
-    sys.settrace(watch)
-    try:
-        return call(*given)
-    finally:
-        sys.settrace(before)
-
-
-class Refusals(unittest.TestCase):
-    def assert_refused(self, wanted, call, *given):
-        with self.assertRaises(BallotError) as caught:
-            in_few_rows(call, *given)
-        self.assertIs(type(caught.exception), wanted, given)
-        self.assertIsInstance(caught.exception, ValueError)
+from helper import Checks, in_few_rows
 
 
 class Ways(unittest.TestCase):
@@ -132,7 +101,7 @@ class ThereAndBack(unittest.TestCase):
             self.assertEqual(in_few_rows(pick, 500, len(places), number), places)
 
 
-class PickRefused(Refusals):
+class PickRefused(Checks):
     def test_few_below_nought_or_above_many(self):
         for many in (0, 1, 5, 500):
             for few in (-10 ** 30, -2, -1, many + 1, many + 2, 10 ** 30):
@@ -157,7 +126,7 @@ class PickRefused(Refusals):
         self.assert_refused(BadPick, number_of, 5, (10 ** 9000,))
 
 
-class NumberOfRefused(Refusals):
+class NumberOfRefused(Checks):
     def test_places_that_do_not_rise(self):
         for places in ((1, 0), (0, 2, 1), (4, 3), (2, 0, 1), (4, 3, 2, 1, 0)):
             self.assert_refused(BadPick, number_of, 5, places)
