@@ -2,7 +2,7 @@
 
 from ballotin.bench import behind
 from ballotin.parts import lowest
-from ballotin.rounds import draws, draws_row, need_friends, sizes_ahead
+from ballotin.rounds import draws, draws_behind, need_friends, sizes_ahead
 
 
 def roads_on(count, friends, roads_here, step):
@@ -83,11 +83,9 @@ def settled(count, friends, row):
     """Behind how many rounds, whatever was drawn, nothing later changes whose the head is."""
     reached = [[1]] + roads(count, friends, row)
     worthy = [[friendly_many(count, friends, row)]] + worths(count, friends, row)
-    later = draws(count, row)
-    each = draws_row(count, row)
+    later = [draws(count, row)] + draws_behind(count, row)
     over = 0
     # Behind the last round every bench is settled, so the walk ends there at the latest.
-    while not is_settled(reached[over], worthy[over], later):
-        later //= each[over]
+    while not is_settled(reached[over], worthy[over], later[over]):
         over += 1
     return over

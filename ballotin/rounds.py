@@ -89,6 +89,16 @@ def draws(count, row):
     return found
 
 
+def draws_behind(count, row):
+    """Behind each round: how many rows of draws the later rounds have."""
+    found = []
+    many = 1
+    for own in draws_row(count, row)[::-1]:
+        found.append(many)
+        many *= own
+    return found[::-1]
+
+
 def parted(count, row, number):
     """The numbers of the single draws in the row of draws that has the number."""
     found = []

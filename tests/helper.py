@@ -1,11 +1,13 @@
-"""What several test files need: refusals, a bound on the rows of code run, and councils gone through one by one."""
+"""What several test files need: refusals, a bound on the rows of code run, councils gone through, houses."""
 
 import copy
 import itertools
+import random
 import sys
 import unittest
 
-from ballotin.errors import BadRound, BallotError
+from ballotin.errors import BadRound, BallotError, NothingLeft
+from ballotin.house import House
 
 # Far more rows than a walk over the places needs, far fewer than one over the picks would.
 MOST_ROWS = 100_000
@@ -62,6 +64,11 @@ class Checks(unittest.TestCase):
             first.append("spoilt")
         self.assertEqual(given, before)
         self.assertEqual(call(*given), wanted)
+
+
+def roll_of(count):
+    """So many names that may stand in a house; their order on the roll is not that of texts."""
+    return ["n" + "zyxwvuts"[place % 8] + "abcdefghij"[place // 8] for place in range(count)]
 
 
 def rounds_that_fit(count, sit):
@@ -167,3 +174,87 @@ def heads_from(count, friends, sit, on, row):
     # The bench may have more friends than the council: it is reckoned so all the same.
     bench = [(place, place >= sit - on) for place in range(sit)]
     return [friends_on(course[-1]) for course in all_courses(council(count, friends), bench, row)]
+
+
+def house_of(folk, friends, row):
+    """A house with this roll, in which the league `ours` has these friends, and the row `way`."""
+    house = House()
+    for name in folk:
+        house.enroll(name, "good" if name in friends else "ill")
+    house.league("ours", ["good"])
+    house.lay("way", row)
+    return house
+
+
+def do(house, deed):
+    """Does a deed as `deeds` tells it."""
+    given = [list(thing) if isinstance(thing, tuple) else thing for thing in deed[1:]]
+    return getattr(house, deed[0])(*given)
+
+
+def done_again(house):
+    """All that is there to do again, as the house tells it; it is done."""
+    found = []
+    while True:
+        try:
+            found.append(house.redo())
+        except NothingLeft:
+            return found
+
+
+def sitting_seen(house, name):
+    """All that a house tells of a sitting."""
+    made = house.head(name) if house.due(name) == "done" else None
+    calls = (house.due, house.bench, house.waiting, house.drawn, house.story, house.chance)
+    return [call(name) for call in calls] + [made]
+
+
+def stands(house):
+    """All that a house tells of how it stands."""
+    return {
+        "people": house.people(),
+        "leagues": [(name, house.clans_of(name), house.friends(name)) for name in house.leagues()],
+        "rows": [(name, house.row(name)) for name in house.rows()],
+        "sittings": [(name, sitting_seen(house, name)) for name in house.sittings()],
+        "deeds": house.deeds(),
+    }
+
+
+def seen(house):
+    """How a house stands, and what is there to do again."""
+    return stands(house), done_again(house.twin())
+
+
+def some_deed(source, house):
+    """A deed made by a source of chance; some are refused."""
+    letter = source.choice("abcdefgh")
+    clan = source.choice(["red", "blue", "gray"])
+    people = [name for name, own in house.people()]
+    count = max(len(people), 1)
+    sittings = house.sittings() + [letter]
+    sitting = source.choice(sittings)
+    waiting = house.waiting(sitting) if sitting in house.sittings() else []
+    return source.choice([
+        ("enroll", letter, clan), ("enroll", letter, clan), ("strike", letter), ("move", letter, clan),
+        ("league", letter, tuple(source.choices(["red", "blue", "gray"], k=source.randint(0, 3)))),
+        ("dissolve", letter), ("lay", letter, tuple(some_row(source, count, source.randint(1, 3)))), ("drop", letter),
+        ("begin", letter, source.choice(house.rows() + ["x"]), source.choice(house.leagues() + ["x"])),
+        ("begin", letter, source.choice(house.rows() + ["x"]), source.choice(house.leagues() + ["x"])),
+        ("draw", sitting, source.choice(waiting + [letter])), ("draw", sitting, source.choice(waiting + [letter])),
+        ("draw", sitting, source.choice(waiting + [letter])), ("poll", sitting), ("shut", letter),
+    ])
+
+
+def some_life(seed, many):
+    """A house to which so many deeds were done, and how it stood ahead of each that counted and at the end."""
+    source, house = random.Random(seed), House()
+    stood = [stands(house)]
+    for _ in range(many):
+        try:
+            do(house, some_deed(source, house))
+        except BallotError:
+            if stands(house) != stood[-1]:
+                raise AssertionError("a refused deed changed something")
+        else:
+            stood.append(stands(house))
+    return house, stood

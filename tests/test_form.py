@@ -129,6 +129,29 @@ class Syntax(unittest.TestCase):
                 if isinstance(node, (ast.arg, ast.Name)):
                     self.assertTrue(taken.isdisjoint(bound_names(node)), (name, node.lineno))
 
+    def test_no_name_is_a_method_and_a_value(self):
+        methods, values = set(), set()
+        for _, node in nodes():
+            if isinstance(node, ast.ClassDef):
+                methods |= {own.name for own in node.body if isinstance(own, ast.FunctionDef)}
+            if isinstance(node, ast.Attribute) and isinstance(node.ctx, ast.Store):
+                values.add(node.attr)
+        self.assertEqual(methods & values, set())
+        for name in values:
+            for thing in ("", 0, [], {}, set(), b"", ()):
+                self.assertFalse(hasattr(thing, name), name)
+
+    def test_no_files_draw_from_one_another(self):
+        drawn = {}
+        for name, tree in trees():
+            found = [node.module for node in tree.body if isinstance(node, ast.ImportFrom)]
+            drawn[name] = {module.split(".")[1] + ".py" for module in found}
+        while drawn:
+            free = [name for name, others in drawn.items() if not others & set(drawn)]
+            self.assertNotEqual(free, [], drawn)
+            for name in free:
+                del drawn[name]
+
     def test_names_of_pythons_own(self):
         for at, node in nodes():
             if isinstance(node, ast.Name) and hasattr(builtins, node.id):

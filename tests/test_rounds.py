@@ -6,11 +6,13 @@ import unittest
 
 from ballotin.chain import chance
 from ballotin.errors import BadCount, NoDraw
-from ballotin.rounds import draws, draws_row, parted, put_together, shortened, sizes, whole
+from ballotin.rounds import draws, draws_behind, draws_row, parted, put_together, shortened, sizes, whole
 from helper import LOT_1, Checks, all_courses, council, picks_of, rows_that_fit, rounds_that_fit, some_row
 
 # Each function with what is handed in behind count and row.
-FITTING = [(sizes,), (whole,), (draws_row,), (draws,), (shortened,), (parted, 0), (put_together, [0])]
+FITTING = [
+    (sizes,), (whole,), (draws_row,), (draws,), (draws_behind,), (shortened,), (parted, 0), (put_together, [0]),
+]
 VENICE = [
     ("lot", 30), ("lot", 9), ("vote", 40, 7, "council"), ("lot", 12), ("vote", 25, 9, "council"), ("lot", 9),
     ("vote", 45, 7, "council"), ("lot", 11), ("vote", 41, 9, "council"), ("vote", 1, 25, "council"),
@@ -184,7 +186,17 @@ class Draws(Checks):
 
     def test_no_rounds(self):
         self.assertEqual(draws_row(7, []), [])
+        self.assertEqual(draws_behind(7, []), [])
         self.assertEqual(draws(7, []), 1)
+
+    def test_rows_of_draws_behind_each_round(self):
+        for count in (1, 2, 3):
+            for row in rows_that_fit(count, 3):
+                each = draws_row(count, row)
+                wanted = [math.prod(each[at:]) for at in range(1, len(row) + 1)]
+                self.assertEqual(draws_behind(count, row), wanted, (count, row))
+        each = draws_row(480, VENICE)
+        self.assertEqual(draws_behind(480, VENICE), [math.prod(each[at:]) for at in range(1, 11)])
 
     def test_each_kind_in_a_large_council(self):
         row = [
